@@ -1,0 +1,88 @@
+package reader
+
+import (
+	"reflect"
+	"strings"
+	"testing"
+
+	"invariants/api"
+	"invariants/tree"
+)
+
+func TestScan(t *testing.T) {
+	src := " ab\n12<= <!=(;!"
+	want := []token{
+		{api.Place{At: 1}, word, "ab"},
+		{api.Place{At: 4}, number, "12"},
+		{api.Place{At: 6}, sign, "<="},
+		{api.Place{At: 9}, sign, "<"},
+		{api.Place{At: 10}, sign, "!="},
+		{api.Place{At: 12}, sign, "("},
+		{api.Place{At: 13}, sign, ";"},
+		{api.Place{At: 14}, none, ""},
+	}
+	at := 0
+	for _, w := range want {
+		got := scan(src, at)
+		if got != w {
+			t.Errorf("at %d: %v, want %v", at, got, w)
+		}
+		at = got.Where() + len(got.text)
+	}
+	if got := scan("a ", 1); got != (token{api.Place{At: 2}, end, ""}) {
+		t.Errorf("at the end: %v", got)
+	}
+}
+
+func TestTrees(t *testing.T) {
+	a, b, c := tree.Name(0), tree.Name(1), tree.Name(2)
+	for src, want := range map[string]tree.Sum{
+		"a":       a,
+		"32767":   tree.Number(32767),
+		"((h))":   tree.Name(7),
+		"-a":      tree.Negation{Of: a},
+		"-a*b":    tree.Binary{Op: tree.Multiply, Left: tree.Negation{Of: a}, Right: b},
+		"a-b-c":   tree.Binary{Op: tree.Subtract, Left: tree.Binary{Op: tree.Subtract, Left: a, Right: b}, Right: c},
+		"a-(b-c)": tree.Binary{Op: tree.Subtract, Left: a, Right: tree.Binary{Op: tree.Subtract, Left: b, Right: c}},
+		"a/b%c":   tree.Binary{Op: tree.Remainder, Left: tree.Binary{Op: tree.Divide, Left: a, Right: b}, Right: c},
+		"a+b*c":   tree.Binary{Op: tree.Add, Left: a, Right: tree.Binary{Op: tree.Multiply, Left: b, Right: c}},
+	} {
+		got, err := Program("a=" + src + ";")
+		if err != nil || !reflect.DeepEqual(got, tree.Block{tree.Assign{Name: a, Sum: want}}) {
+			t.Errorf("%q: %#v, %v", src, got, err)
+		}
+	}
+}
+
+func TestStatements(t *testing.T) {
+	cond := tree.Cond{Relation: tree.GreaterEqual, Left: tree.Name(0), Right: tree.Number(1)}
+	got, err := Program("read b;assert a>=1;if a>=1{}if a>=1{}else{}while a>=1{read b;}")
+	want := tree.Block{
+		tree.Read{Name: 1},
+		tree.Assert{Cond: cond},
+		tree.If{Cond: cond},
+		tree.If{Cond: cond, HasElse: true},
+		tree.While{Cond: cond, Block: tree.Block{tree.Read{Name: 1}}},
+	}
+	if err != nil || !reflect.DeepEqual(got, want) {
+		t.Errorf("%#v, %v", got, err)
+	}
+}
+
+func TestFaults(t *testing.T) {
+	for src, want := range map[string]api.Fault{
+		"a=1":                            {Place: api.Place{At: 3}, Err: api.ErrSyntax},
+		"a=$":                            {Place: api.Place{At: 2}, Err: api.ErrSyntax},
+		"a=" + strings.Repeat("-(", 7):   {Place: api.Place{At: 14}, Err: api.ErrDepth},
+		strings.Repeat("while a<b{", 13): {Place: api.Place{At: 129}, Err: api.ErrDepth},
+	} {
+		program, err := Program(src)
+		fault, ok := err.(*api.Fault)
+		if !ok || *fault != want || program != nil {
+			t.Errorf("%q: %v, %v, want %v", src, program, err, want)
+		}
+	}
+	if program, err := Program(strings.Repeat(" ", api.MaxText+1)); err != api.ErrLong || program != nil {
+		t.Errorf("too long: %v, %v", program, err)
+	}
+}
