@@ -5,6 +5,7 @@ import (
 	"invariants/api"
 	"invariants/printer"
 	"invariants/reader"
+	"invariants/runner"
 )
 
 // Print writes a program in one form (P3 to P5).
@@ -13,14 +14,19 @@ func Print(src string) (string, error) {
 	if err != nil {
 		return "", err
 	}
-	return printer.Text(program), nil
+	return printer.Text(program.Block), nil
 }
 
 // Run runs a program (P6, P7).
-// It tells what is wrong with the text; of a program it answers nothing yet.
 func Run(src string, inputs []int16, fuel int) (api.Trace, error) {
-	_, err := reader.Program(src)
-	return api.Trace{}, err
+	program, err := reader.Program(src)
+	if err != nil {
+		return api.Trace{}, err
+	}
+	if fuel < 0 || fuel > api.MaxFuel {
+		return api.Trace{}, api.ErrFuel
+	}
+	return runner.Run(program, inputs, fuel), nil
 }
 
 // Analyze tells what holds at a program's points (P8 to P14).

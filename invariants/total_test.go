@@ -23,10 +23,15 @@ func checkTotal(t *testing.T, src string) {
 	checkError(t, src, err)
 	for _, fuel := range []int{math.MinInt, -1, 0, 9, math.MaxInt} {
 		trace, ranErr := invariants.Run(src, []int16{-32768, 0, 32767}, fuel)
-		if ranErr != nil && !reflect.DeepEqual(trace, api.Trace{}) {
-			t.Errorf("Run(%q): a trace beside %v", src, ranErr)
-		}
 		checkSameFault(t, src, err, ranErr)
+		switch out := fuel < 0 || fuel > api.MaxFuel; {
+		case ranErr != nil && !reflect.DeepEqual(trace, api.Trace{}):
+			t.Errorf("Run(%q): a trace beside %v", src, ranErr)
+		case err == nil && out && ranErr != api.ErrFuel:
+			t.Errorf("Run(%q, fuel %d): %v", src, fuel, ranErr)
+		case err == nil && !out && (ranErr != nil || len(trace.Visits) > fuel || trace.Stop < api.Spent):
+			t.Errorf("Run(%q, fuel %d): %v, %v", src, fuel, trace, ranErr)
+		}
 	}
 	for _, cfg := range []api.Config{{}, {Domain: api.Congruences, Thresholds: true}, {Domain: math.MinInt, Delay: -1, Narrow: math.MaxInt, Unroll: math.MinInt}} {
 		report, lookedErr := invariants.Analyze(src, cfg)
@@ -122,17 +127,20 @@ func TestP1FirstNamedError(t *testing.T) {
 
 func TestP2SameAnswerAgain(t *testing.T) {
 	texts := append(samples(), "a=?", "a=1", "a="+strings.Repeat("-", 13), strings.Repeat(" ", api.MaxText+1))
+	answers := func(src string) string {
+		return printed(src) + ran(src, []int16{3, -1}, 40) + ran(src, nil, api.MaxFuel) + ran(src, nil, -1)
+	}
 	first := map[string]string{}
 	for _, src := range texts {
-		first[src] = printed(src)
+		first[src] = answers(src)
 	}
 	slices.Reverse(texts)
 	var all sync.WaitGroup
 	for range 8 {
 		all.Go(func() {
 			for _, src := range texts {
-				if got := printed(src); got != first[src] {
-					t.Errorf("Print(%q): %q, but %q at first", src, got, first[src])
+				if got := answers(src); got != first[src] {
+					t.Errorf("%q: %q, but %q at first", src, got, first[src])
 				}
 			}
 		})
@@ -152,15 +160,5 @@ func TestP2FreshFaults(t *testing.T) {
 		if got := printed(src); got != before {
 			t.Errorf("Print(%q): %s behind a written fault, want %s", src, got, before)
 		}
-	}
-}
-
-func TestP2InputsStay(t *testing.T) {
-	inputs := []int16{3, -1, 4}
-	if _, err := invariants.Run("read a;read b;a=a+b;", inputs, 9); err != nil {
-		t.Fatal(err)
-	}
-	if !slices.Equal(inputs, []int16{3, -1, 4}) {
-		t.Errorf("the inputs are written into: %v", inputs)
 	}
 }

@@ -13,20 +13,22 @@ type reader struct {
 	src       string
 	now       token // the first one that is not taken yet
 	open      int   // brackets, and minus signs ahead of a unary
+	points    tree.Point
+	sites     tree.Site
 	ops       map[string]tree.Op
 	relations map[string]tree.Relation
 }
 
 // Program reads a text that is a program. The error is api.ErrLong or an *api.Fault.
-func Program(src string) (program tree.Block, err error) {
+func Program(src string) (program tree.Program, err error) {
 	if len(src) > api.MaxText {
-		return nil, api.ErrLong
+		return tree.Program{}, api.ErrLong
 	}
 	defer func() {
 		switch left := recover().(type) {
 		case nil:
 		case *api.Fault:
-			program, err = nil, left
+			program, err = tree.Program{}, left
 		default:
 			panic(left)
 		}
@@ -35,12 +37,12 @@ func Program(src string) (program tree.Block, err error) {
 	return r.program(), nil
 }
 
-func (r *reader) program() tree.Block {
+func (r *reader) program() tree.Program {
 	all := r.statements()
 	if r.now.kind != end {
 		panic(r.fault(api.ErrSyntax))
 	}
-	return all
+	return tree.Program{Block: all, End: r.points}
 }
 
 // statements reads on as long as a statement may begin: each begins with a word.
@@ -52,45 +54,49 @@ func (r *reader) statements() tree.Block {
 	return all
 }
 
+// statement takes its point as it begins, ahead of those within it.
 func (r *reader) statement() tree.Statement {
+	point := r.points
+	r.points++
 	switch r.now.text {
 	case "read":
-		return r.read()
+		return r.read(point)
 	case "assert":
-		return r.assert()
+		return r.assert(point)
 	case "if":
-		return r.branch()
+		return r.branch(point)
 	case "while":
-		return r.loop()
+		return r.loop(point)
 	}
-	return r.assign()
+	return r.assign(point)
 }
 
-func (r *reader) assign() tree.Statement {
+func (r *reader) assign(point tree.Point) tree.Statement {
 	name := r.name()
 	r.take("=")
 	sum := r.sum()
 	r.take(";")
-	return tree.Assign{Name: name, Sum: sum}
+	return tree.Assign{Point: point, Name: name, Sum: sum}
 }
 
-func (r *reader) read() tree.Statement {
+func (r *reader) read(point tree.Point) tree.Statement {
 	r.take("read")
 	name := r.name()
 	r.take(";")
-	return tree.Read{Name: name}
+	return tree.Read{Point: point, Name: name}
 }
 
-func (r *reader) assert() tree.Statement {
+func (r *reader) assert(point tree.Point) tree.Statement {
 	r.take("assert")
+	site := r.site()
 	cond := r.cond()
 	r.take(";")
-	return tree.Assert{Cond: cond}
+	return tree.Assert{Point: point, Site: site, Cond: cond}
 }
 
-func (r *reader) branch() tree.Statement {
+func (r *reader) branch(point tree.Point) tree.Statement {
 	r.take("if")
-	node := tree.If{Cond: r.cond()}
+	node := tree.If{Point: point, Cond: r.cond()}
 	node.Then = r.block()
 	if r.now.text == "else" {
 		r.take("else")
@@ -100,10 +106,10 @@ func (r *reader) branch() tree.Statement {
 	return node
 }
 
-func (r *reader) loop() tree.Statement {
+func (r *reader) loop(point tree.Point) tree.Statement {
 	r.take("while")
 	cond := r.cond()
-	return tree.While{Cond: cond, Block: r.block()}
+	return tree.While{Point: point, Cond: cond, Block: r.block()}
 }
 
 func (r *reader) block() tree.Block {
@@ -137,8 +143,12 @@ func (r *reader) chain(level tree.Level, part func() tree.Sum) tree.Sum {
 			return left
 		}
 		r.step()
-		right := part()
-		left = tree.Binary{Op: op, Left: left, Right: right}
+		node := tree.Binary{Op: op, Left: left}
+		if op.HasSite() {
+			node.Site = r.site()
+		}
+		node.Right = part()
+		left = node
 	}
 }
 
@@ -186,6 +196,13 @@ func (r *reader) name() tree.Name {
 	}
 	r.step()
 	return tree.Name(text[0] - 'a')
+}
+
+// site is the number of the one whose sign or word has just been taken.
+func (r *reader) site() tree.Site {
+	site := r.sites
+	r.sites++
+	return site
 }
 
 // enter takes a token that is open from here on.

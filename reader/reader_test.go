@@ -44,11 +44,12 @@ func TestTrees(t *testing.T) {
 		"-a*b":    tree.Binary{Op: tree.Multiply, Left: tree.Negation{Of: a}, Right: b},
 		"a-b-c":   tree.Binary{Op: tree.Subtract, Left: tree.Binary{Op: tree.Subtract, Left: a, Right: b}, Right: c},
 		"a-(b-c)": tree.Binary{Op: tree.Subtract, Left: a, Right: tree.Binary{Op: tree.Subtract, Left: b, Right: c}},
-		"a/b%c":   tree.Binary{Op: tree.Remainder, Left: tree.Binary{Op: tree.Divide, Left: a, Right: b}, Right: c},
+		"a/b%c":   tree.Binary{Op: tree.Remainder, Site: 1, Left: tree.Binary{Op: tree.Divide, Left: a, Right: b}, Right: c},
+		"a/(b%c)": tree.Binary{Op: tree.Divide, Left: a, Right: tree.Binary{Op: tree.Remainder, Site: 1, Left: b, Right: c}},
 		"a+b*c":   tree.Binary{Op: tree.Add, Left: a, Right: tree.Binary{Op: tree.Multiply, Left: b, Right: c}},
 	} {
 		got, err := Program("a=" + src + ";")
-		if err != nil || !reflect.DeepEqual(got, tree.Block{tree.Assign{Name: a, Sum: want}}) {
+		if err != nil || !reflect.DeepEqual(got, tree.Program{Block: tree.Block{tree.Assign{Name: a, Sum: want}}, End: 1}) {
 			t.Errorf("%q: %#v, %v", src, got, err)
 		}
 	}
@@ -57,13 +58,37 @@ func TestTrees(t *testing.T) {
 func TestStatements(t *testing.T) {
 	cond := tree.Cond{Relation: tree.GreaterEqual, Left: tree.Name(0), Right: tree.Number(1)}
 	got, err := Program("read b;assert a>=1;if a>=1{}if a>=1{}else{}while a>=1{read b;}")
-	want := tree.Block{
+	want := tree.Program{Block: tree.Block{
 		tree.Read{Name: 1},
-		tree.Assert{Cond: cond},
-		tree.If{Cond: cond},
-		tree.If{Cond: cond, HasElse: true},
-		tree.While{Cond: cond, Block: tree.Block{tree.Read{Name: 1}}},
+		tree.Assert{Point: 1, Cond: cond},
+		tree.If{Point: 2, Cond: cond},
+		tree.If{Point: 3, Cond: cond, HasElse: true},
+		tree.While{Point: 4, Cond: cond, Block: tree.Block{tree.Read{Point: 5, Name: 1}}},
+	}, End: 6}
+	if err != nil || !reflect.DeepEqual(got, want) {
+		t.Errorf("%#v, %v", got, err)
 	}
+}
+
+// The word of an assert stands ahead of the signs in its condition; a block's points lie between its statement's and the next one's.
+func TestPointsAndSites(t *testing.T) {
+	got, err := Program("if a<b{assert a/b==a%b;}else{assert a<b;}assert a<b;")
+	a, b := tree.Name(0), tree.Name(1)
+	less := tree.Cond{Left: a, Right: b}
+	signs := tree.Cond{
+		Relation: tree.Equal,
+		Left:     tree.Binary{Op: tree.Divide, Site: 1, Left: a, Right: b},
+		Right:    tree.Binary{Op: tree.Remainder, Site: 2, Left: a, Right: b},
+	}
+	want := tree.Program{Block: tree.Block{
+		tree.If{
+			Cond:    less,
+			Then:    tree.Block{tree.Assert{Point: 1, Cond: signs}},
+			Else:    tree.Block{tree.Assert{Point: 2, Site: 3, Cond: less}},
+			HasElse: true,
+		},
+		tree.Assert{Point: 3, Site: 4, Cond: less},
+	}, End: 4}
 	if err != nil || !reflect.DeepEqual(got, want) {
 		t.Errorf("%#v, %v", got, err)
 	}
@@ -78,11 +103,11 @@ func TestFaults(t *testing.T) {
 	} {
 		program, err := Program(src)
 		fault, ok := err.(*api.Fault)
-		if !ok || *fault != want || program != nil {
+		if !ok || *fault != want || program.Block != nil || program.End != 0 {
 			t.Errorf("%q: %v, %v, want %v", src, program, err, want)
 		}
 	}
-	if program, err := Program(strings.Repeat(" ", api.MaxText+1)); err != api.ErrLong || program != nil {
+	if program, err := Program(strings.Repeat(" ", api.MaxText+1)); err != api.ErrLong || program.Block != nil || program.End != 0 {
 		t.Errorf("too long: %v, %v", program, err)
 	}
 }

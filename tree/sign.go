@@ -35,6 +35,9 @@ func (o Op) Level() Level {
 	return Products
 }
 
+// HasSite tells whether a run may stop at it.
+func (o Op) HasSite() bool { return o == Divide || o == Remainder }
+
 // Ops looks an Op up by its sign.
 func Ops() map[string]Op {
 	ops := map[string]Op{}

@@ -1,26 +1,50 @@
 // Package tree: a program as a tree of nodes.
 package tree
 
-// Block is statements, one behind the other; a whole program is one too.
+// Program is a whole program: its statements, and its end, which has a point of its own.
+type Program struct {
+	Block
+	End Point
+}
+
+// Block is statements, one behind the other.
 type Block []Statement
 
-// Statement is an Assign, a Read, an Assert, an If or a While.
-type Statement interface{ statement() }
+// Statement is an Assign, a Read, an Assert, an If or a While, each with its Point.
+type Statement interface{ Where() int }
+
+// Point is where a run comes by: the number of a statement, from 0 on in the order in which they begin in the text, or of the end.
+type Point int
+
+// Where tells it.
+func (p Point) Where() int { return int(p) }
+
+// Site is where a run may stop: the number of a /, a % or an assert, from 0 on in their order in the text.
+type Site int
 
 // Assign puts the value of a sum into a variable.
 type Assign struct {
+	Point
 	Name Name
 	Sum  Sum
 }
 
 // Read puts the next input into a variable.
-type Read struct{ Name Name }
+type Read struct {
+	Point
+	Name Name
+}
 
 // Assert asks for a condition to hold.
-type Assert struct{ Cond Cond }
+type Assert struct {
+	Point
+	Site Site
+	Cond Cond
+}
 
 // If has two blocks. An else with nothing in it is written, one that is not there isn't: HasElse tells them apart.
 type If struct {
+	Point
 	Cond    Cond
 	Then    Block
 	Else    Block
@@ -29,15 +53,10 @@ type If struct {
 
 // While goes round its block as long as its condition holds.
 type While struct {
+	Point
 	Cond  Cond
 	Block Block
 }
-
-func (Assign) statement() {}
-func (Read) statement()   {}
-func (Assert) statement() {}
-func (If) statement()     {}
-func (While) statement()  {}
 
 // Cond holds two sums against each other.
 type Cond struct {
@@ -57,9 +76,10 @@ type Name int
 // Negation is the - ahead of a unary.
 type Negation struct{ Of Sum }
 
-// Binary is a sign between two sums.
+// Binary is a sign between two sums. Its Site means something only if the sign has one.
 type Binary struct {
 	Op
+	Site        Site
 	Left, Right Sum
 }
 
