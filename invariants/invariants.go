@@ -2,10 +2,13 @@
 package invariants
 
 import (
+	"invariants/analyzer"
 	"invariants/api"
+	"invariants/interval"
 	"invariants/printer"
 	"invariants/reader"
 	"invariants/runner"
+	"invariants/tree"
 )
 
 // Print writes a program in one form (P3 to P5).
@@ -23,15 +26,39 @@ func Run(src string, inputs []int16, fuel int) (api.Trace, error) {
 	if err != nil {
 		return api.Trace{}, err
 	}
-	if fuel < 0 || fuel > api.MaxFuel {
+	if !isWithin(fuel, api.MaxFuel) {
 		return api.Trace{}, api.ErrFuel
 	}
 	return runner.Run(program, inputs, fuel), nil
 }
 
 // Analyze tells what holds at a program's points (P8 to P14).
-// It tells what is wrong with the text; of a program it answers nothing yet.
+// In Congruences it answers nothing yet.
 func Analyze(src string, cfg api.Config) (api.Report, error) {
-	_, err := reader.Program(src)
-	return api.Report{}, err
+	program, err := reader.Program(src)
+	if err != nil {
+		return api.Report{}, err
+	}
+	if !isConfig(cfg) {
+		return api.Report{}, api.ErrConfig
+	}
+	if cfg.Domain == api.Congruences {
+		return api.Report{}, nil
+	}
+	return analyzer.Report(program, cfg, interval.New(thresholds(program, cfg))), nil
+}
+
+func isConfig(cfg api.Config) bool {
+	return (cfg.Domain == api.Intervals || cfg.Domain == api.Congruences) &&
+		isWithin(cfg.Delay, api.MaxDelay) && isWithin(cfg.Narrow, api.MaxNarrow) && isWithin(cfg.Unroll, api.MaxUnroll)
+}
+
+// isWithin tells whether a number is from 0 to the greatest that it may be.
+func isWithin(n, greatest int) bool { return 0 <= n && n <= greatest }
+
+func thresholds(program tree.Program, cfg api.Config) []tree.Number {
+	if !cfg.Thresholds {
+		return nil
+	}
+	return program.Numbers
 }

@@ -33,12 +33,27 @@ func checkTotal(t *testing.T, src string) {
 			t.Errorf("Run(%q, fuel %d): %v, %v", src, fuel, trace, ranErr)
 		}
 	}
-	for _, cfg := range []api.Config{{}, {Domain: api.Congruences, Thresholds: true}, {Domain: math.MinInt, Delay: -1, Narrow: math.MaxInt, Unroll: math.MinInt}} {
-		report, lookedErr := invariants.Analyze(src, cfg)
-		if lookedErr != nil && !reflect.DeepEqual(report, api.Report{}) {
-			t.Errorf("Analyze(%q): a report beside %v", src, lookedErr)
+	checkTotalAnalyze(t, src, err)
+}
+
+func checkTotalAnalyze(t *testing.T, src string, printed error) {
+	t.Helper()
+	for cfg, want := range map[api.Config]error{
+		{}: nil,
+		{Delay: 1, Narrow: 1, Unroll: 1, Thresholds: true}:                                  nil,
+		{Domain: api.Congruences, Thresholds: true}:                                         nil,
+		{Unroll: api.MaxUnroll + 1}:                                                         api.ErrConfig,
+		{Domain: math.MinInt, Delay: -1, Narrow: math.MaxInt, Unroll: math.MinInt}:          api.ErrConfig,
+		{Domain: api.Congruences, Delay: math.MaxInt, Narrow: math.MinInt, Unroll: 1 << 32}: api.ErrConfig,
+	} {
+		report, err := invariants.Analyze(src, cfg)
+		if err != nil && !reflect.DeepEqual(report, api.Report{}) {
+			t.Errorf("Analyze(%q): a report beside %v", src, err)
 		}
-		checkSameFault(t, src, err, lookedErr)
+		checkSameFault(t, src, printed, err)
+		if printed == nil && err != want {
+			t.Errorf("Analyze(%q, %v): %v, want %v", src, cfg, err, want)
+		}
 	}
 }
 
@@ -128,7 +143,8 @@ func TestP1FirstNamedError(t *testing.T) {
 func TestP2SameAnswerAgain(t *testing.T) {
 	texts := append(samples(), "a=?", "a=1", "a="+strings.Repeat("-", 13), strings.Repeat(" ", api.MaxText+1))
 	answers := func(src string) string {
-		return printed(src) + ran(src, []int16{3, -1}, 40) + ran(src, nil, api.MaxFuel) + ran(src, nil, -1)
+		return printed(src) + ran(src, []int16{3, -1}, 40) + ran(src, nil, api.MaxFuel) + ran(src, nil, -1) +
+			analyzed(src, api.Config{}) + analyzed(src, api.Config{Delay: 2, Narrow: 2, Unroll: 2, Thresholds: true}) + analyzed(src, api.Config{Delay: -1})
 	}
 	first := map[string]string{}
 	for _, src := range texts {

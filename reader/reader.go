@@ -15,6 +15,7 @@ type reader struct {
 	open      int   // brackets, and minus signs ahead of a unary
 	points    tree.Point
 	sites     tree.Site
+	numbers   []tree.Number
 	ops       map[string]tree.Op
 	relations map[string]tree.Relation
 }
@@ -42,7 +43,7 @@ func (r *reader) program() tree.Program {
 	if r.now.kind != end {
 		panic(r.fault(api.ErrSyntax))
 	}
-	return tree.Program{Block: all, End: r.points}
+	return tree.Program{Block: all, End: r.points, Sites: int(r.sites), Numbers: r.numbers}
 }
 
 // statements reads on as long as a statement may begin: each begins with a word.
@@ -186,6 +187,7 @@ func (r *reader) number() tree.Number {
 		panic(r.fault(api.ErrSyntax))
 	}
 	r.step()
+	r.numbers = append(r.numbers, tree.Number(n))
 	return tree.Number(n)
 }
 

@@ -2,6 +2,7 @@ package reader
 
 import (
 	"reflect"
+	"slices"
 	"strings"
 	"testing"
 
@@ -49,7 +50,7 @@ func TestTrees(t *testing.T) {
 		"a+b*c":   tree.Binary{Op: tree.Add, Left: a, Right: tree.Binary{Op: tree.Multiply, Left: b, Right: c}},
 	} {
 		got, err := Program("a=" + src + ";")
-		if err != nil || !reflect.DeepEqual(got, tree.Program{Block: tree.Block{tree.Assign{Name: a, Sum: want}}, End: 1}) {
+		if err != nil || got.End != 1 || !reflect.DeepEqual(got.Block, tree.Block{tree.Assign{Name: a, Sum: want}}) {
 			t.Errorf("%q: %#v, %v", src, got, err)
 		}
 	}
@@ -64,7 +65,7 @@ func TestStatements(t *testing.T) {
 		tree.If{Point: 2, Cond: cond},
 		tree.If{Point: 3, Cond: cond, HasElse: true},
 		tree.While{Point: 4, Cond: cond, Block: tree.Block{tree.Read{Point: 5, Name: 1}}},
-	}, End: 6}
+	}, End: 6, Sites: 1, Numbers: []tree.Number{1, 1, 1, 1}}
 	if err != nil || !reflect.DeepEqual(got, want) {
 		t.Errorf("%#v, %v", got, err)
 	}
@@ -88,9 +89,18 @@ func TestPointsAndSites(t *testing.T) {
 			HasElse: true,
 		},
 		tree.Assert{Point: 3, Site: 4, Cond: less},
-	}, End: 4}
+	}, End: 4, Sites: 5}
 	if err != nil || !reflect.DeepEqual(got, want) {
 		t.Errorf("%#v, %v", got, err)
+	}
+}
+
+// All numbers of the text are there, wherever they stand, in their order.
+func TestNumbers(t *testing.T) {
+	got, err := Program("a=-7+0*(32767);if 3<a{while a!=b{b=4;}}else{assert b>=-(5);}")
+	want := []tree.Number{7, 0, 32767, 3, 4, 5}
+	if err != nil || !slices.Equal(got.Numbers, want) || got.Sites != 1 {
+		t.Errorf("%v, %d sites, %v, want %v", got.Numbers, got.Sites, err, want)
 	}
 }
 

@@ -65,6 +65,16 @@ var relationSigns = [...]string{"<", "<=", "==", "!=", ">=", ">"}
 // Sign is how it is written.
 func (r Relation) Sign() string { return relationSigns[r] }
 
+var opposites = [...]Relation{GreaterEqual, Greater, NotEqual, Equal, Less, LessEqual}
+
+// Opposite is the one that holds just where this one doesn't.
+func (r Relation) Opposite() Relation { return opposites[r] }
+
+var mirrors = [...]Relation{Greater, GreaterEqual, Equal, NotEqual, LessEqual, Less}
+
+// Mirror is the one that holds with the two sides changed about.
+func (r Relation) Mirror() Relation { return mirrors[r] }
+
 // Relations looks a Relation up by its sign.
 func Relations() map[string]Relation {
 	relations := map[string]Relation{}

@@ -1,10 +1,12 @@
 // Package tree: a program as a tree of nodes.
 package tree
 
-// Program is a whole program: its statements, and its end, which has a point of its own.
+// Program is a whole program: its statements, and its end, which has a point of its own; how many sites it has, and the numbers in its text.
 type Program struct {
 	Block
-	End Point
+	End     Point
+	Sites   int
+	Numbers []Number
 }
 
 // Block is statements, one behind the other.

@@ -70,3 +70,18 @@ func TestHolds(t *testing.T) {
 		}
 	}
 }
+
+// Of two numbers, a relation holds just where its opposite doesn't, and where its mirror holds of them changed about.
+func TestOppositesAndMirrors(t *testing.T) {
+	for sign, r := range Relations() {
+		for _, pair := range [][2]int16{{-2, 1}, {1, 1}, {1, -2}, {math.MinInt16, math.MaxInt16}} {
+			x, y := pair[0], pair[1]
+			if r.Holds(x, y) == r.Opposite().Holds(x, y) {
+				t.Errorf("%s and %s both tell %v of %d and %d", sign, r.Opposite().Sign(), r.Holds(x, y), x, y)
+			}
+			if r.Holds(x, y) != r.Mirror().Holds(y, x) {
+				t.Errorf("%d %s %d is not %d %s %d", x, sign, y, y, r.Mirror().Sign(), x)
+			}
+		}
+	}
+}
