@@ -14,8 +14,8 @@ type passed[V comparable] struct {
 	told  bool
 }
 
-// loop goes round a loop just once for each state that is come to it with: else loops within loops would take a time beyond all bounds.
-// What would be told again is told already, since a join with a state that it has in it stays as it is.
+// loop goes round just once for each state with which a loop is come to: else loops within loops would take a time beyond all bounds.
+// Nor need anything be told twice: a fact that has a state in it already stays as it is.
 func (w walk[V]) loop(one tree.While, s state[V]) state[V] {
 	here := entry[V]{one.Where(), s}
 	if known, ok := w.loops[here]; ok && (known.told || w.found == nil) {
@@ -26,7 +26,7 @@ func (w walk[V]) loop(one tree.While, s state[V]) state[V] {
 	return behind
 }
 
-// around is first by itself each round that is to be unrolled, then all others by one state.
+// around takes the unrolled rounds one by one, then all others together, by one state. The block behind that one matters only to the report.
 func (w walk[V]) around(one tree.While, s state[V]) state[V] {
 	var out state[V]
 	for range w.cfg.Unroll {
@@ -44,7 +44,7 @@ func (w walk[V]) around(one tree.While, s state[V]) state[V] {
 	return w.join(out, fails)
 }
 
-// all is a state that has in it each with which the rounds from s on begin.
+// all is one state for all rounds from s on: it has in it each with which a round begins.
 func (w walk[V]) all(one tree.While, s state[V]) state[V] {
 	quiet := w.quiet()
 	next := func(i state[V]) state[V] {
