@@ -16,10 +16,21 @@ func analyzed(src string, cfg api.Config) string {
 	if err != nil {
 		return told(err)
 	}
-	return reported(report)
+	return reported(cfg.Domain, report)
 }
 
-func reported(report api.Report) string {
+// valueText writes a number alone as it is; else in Intervals A:B, in Congruences A,B.
+func valueText(domain int, v api.Value) string {
+	switch {
+	case domain == api.Congruences && v.A != 0:
+		return fmt.Sprintf("%d,%d", v.A, v.B)
+	case domain == api.Intervals && v.A != v.B:
+		return fmt.Sprintf("%d:%d", v.A, v.B)
+	}
+	return fmt.Sprint(v.B)
+}
+
+func reported(domain int, report api.Report) string {
 	var text strings.Builder
 	for point, fact := range report.Facts {
 		fmt.Fprint(&text, point)
@@ -27,12 +38,8 @@ func reported(report api.Report) string {
 			text.WriteString(" -")
 		}
 		for name, v := range fact.Values {
-			switch {
-			case v == (api.Value{}):
-			case v.A == v.B:
-				fmt.Fprintf(&text, " %c%d", 'a'+name, v.A)
-			default:
-				fmt.Fprintf(&text, " %c%d:%d", 'a'+name, v.A, v.B)
+			if v != (api.Value{}) {
+				fmt.Fprintf(&text, " %c%s", 'a'+name, valueText(domain, v))
 			}
 		}
 		text.WriteString("; ")
@@ -58,6 +65,14 @@ func checkReports(t *testing.T, examples []analyzeExample) {
 			t.Errorf("Analyze(%q, %v):\n%s\nwant\n%s", e.src, e.cfg, got, e.want)
 		}
 	}
+}
+
+func domains() []int { return []int{api.Intervals, api.Congruences} }
+
+// in is a configuration with another domain.
+func in(domain int, cfg api.Config) api.Config {
+	cfg.Domain = domain
+	return cfg
 }
 
 // configs are some of each kind.
@@ -95,19 +110,27 @@ func TestP8Configurations(t *testing.T) {
 			{strings.Repeat(" ", api.MaxText), cfg, configError()},
 		})
 	}
-	for _, domain := range []int{api.Intervals, api.Congruences} {
+	for _, domain := range domains() {
 		for _, bound := range []int{0, 1} {
 			cfg := api.Config{Domain: domain, Delay: bound * api.MaxDelay, Narrow: bound * api.MaxNarrow, Unroll: bound * api.MaxUnroll, Thresholds: bound == 1}
-			if report, err := invariants.Analyze("a=1;", cfg); err != nil || domain == api.Intervals && reported(report) != "0; 1 a1; " {
-				t.Errorf("%v: %v, %v", cfg, report, err)
-			}
-			checkReports(t, []analyzeExample{{"a=", cfg, syntaxAt(2)}, {strings.Repeat(" ", api.MaxText+1), cfg, long()}})
+			checkReports(t, []analyzeExample{{"a=1;", cfg, "0; 1 a1; "}, {"a=", cfg, syntaxAt(2)}, {strings.Repeat(" ", api.MaxText+1), cfg, long()}})
 		}
 	}
 }
 
-// checkShape holds a report to what all reports have.
-func checkShape(t *testing.T, src string, report api.Report, points, sites int) {
+// isValue tells whether a value is one of a domain.
+func isValue(domain int, v api.Value) bool {
+	switch {
+	case domain == api.Intervals:
+		return math.MinInt16 <= v.A && v.A <= v.B && v.B <= math.MaxInt16
+	case v.A == 0:
+		return math.MinInt16 <= v.B && v.B <= math.MaxInt16
+	}
+	return 1 <= v.A && v.A <= 65536 && 0 <= v.B && v.B < v.A
+}
+
+// checkShape holds a report to what all reports of a domain have.
+func checkShape(t *testing.T, src string, domain int, report api.Report, points, sites int) {
 	t.Helper()
 	if len(report.Facts) != points || len(report.Sites) != sites {
 		t.Errorf("%q: %d facts and %d sites, want %d and %d", src, len(report.Facts), len(report.Sites), points, sites)
@@ -117,7 +140,7 @@ func checkShape(t *testing.T, src string, report api.Report, points, sites int) 
 			t.Errorf("%q: point %d is not reached, with %v", src, point, fact)
 		}
 		for _, v := range fact.Values {
-			if v.A < math.MinInt16 || v.A > v.B || v.B > math.MaxInt16 {
+			if fact.Reached && !isValue(domain, v) {
 				t.Errorf("%q: point %d has %v", src, point, v)
 			}
 		}
@@ -142,11 +165,13 @@ func TestP8FactsAndSites(t *testing.T) {
 		"a=1" + strings.Repeat("/1", 198) + ";": {2, 198},
 	} {
 		for _, cfg := range configs() {
-			report, err := invariants.Analyze(src, cfg)
-			if err != nil {
-				t.Fatalf("Analyze(%q, %v): %v", src, cfg, err)
+			for _, domain := range domains() {
+				report, err := invariants.Analyze(src, in(domain, cfg))
+				if err != nil {
+					t.Fatalf("Analyze(%q, %v): %v", src, in(domain, cfg), err)
+				}
+				checkShape(t, src, domain, report, count[0], count[1])
 			}
-			checkShape(t, src, report, count[0], count[1])
 		}
 	}
 }

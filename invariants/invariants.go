@@ -4,6 +4,7 @@ package invariants
 import (
 	"invariants/analyzer"
 	"invariants/api"
+	"invariants/congruence"
 	"invariants/interval"
 	"invariants/printer"
 	"invariants/reader"
@@ -33,7 +34,6 @@ func Run(src string, inputs []int16, fuel int) (api.Trace, error) {
 }
 
 // Analyze tells what holds at a program's points (P8 to P14).
-// In Congruences it answers nothing yet.
 func Analyze(src string, cfg api.Config) (api.Report, error) {
 	program, err := reader.Program(src)
 	if err != nil {
@@ -43,7 +43,7 @@ func Analyze(src string, cfg api.Config) (api.Report, error) {
 		return api.Report{}, api.ErrConfig
 	}
 	if cfg.Domain == api.Congruences {
-		return api.Report{}, nil
+		return analyzer.Report(program, cfg, congruence.Domain{}), nil
 	}
 	return analyzer.Report(program, cfg, interval.New(thresholds(program, cfg))), nil
 }

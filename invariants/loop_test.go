@@ -222,30 +222,48 @@ func drawConfig(draw func(int) int) api.Config {
 	return api.Config{Delay: draw(api.MaxDelay + 1), Narrow: draw(api.MaxNarrow + 1), Unroll: draw(api.MaxUnroll + 1), Thresholds: draw(2) == 1}
 }
 
-func TestP13DrawnPrograms(t *testing.T) {
-	draw := draws(12)
-	known := [3]int{}
-	for _, src := range append(drawn(13, 2000), drawnLoops(14, 6000)...) {
-		cfg := drawConfig(draw)
-		got, err := invariants.Analyze(src, cfg)
-		want := secondReport(t, src, cfg)
-		if err != nil || !reflect.DeepEqual(got, want) {
-			t.Fatalf("Analyze(%q, %v):\n%s, %v\nwant\n%s", src, cfg, reported(got), err, reported(want))
-		}
-		checkShape(t, src, got, len(want.Facts), len(want.Sites))
-		for _, site := range got.Sites {
-			known[site]++
-		}
+// checkSecond holds Analyze to a second analysis, and counts what it tells of sites.
+func checkSecond(t *testing.T, src string, cfg api.Config, known *[3]int) {
+	t.Helper()
+	got, err := invariants.Analyze(src, cfg)
+	want := secondReport(t, src, cfg)
+	if err != nil || !reflect.DeepEqual(got, want) {
+		t.Fatalf("Analyze(%q, %v):\n%s, %v\nwant\n%s", src, cfg, reported(cfg.Domain, got), err, reported(cfg.Domain, want))
 	}
-	for site, count := range known {
-		if count < 500 {
-			t.Errorf("only %d sites are %d", count, site)
+	checkShape(t, src, cfg.Domain, got, len(want.Facts), len(want.Sites))
+	for _, site := range got.Sites {
+		known[site]++
+	}
+}
+
+func TestP13DrawnPrograms(t *testing.T) {
+	for _, domain := range domains() {
+		draw := draws(12)
+		known := [3]int{}
+		for _, src := range append(drawn(13, 2000), drawnLoops(14, 6000)...) {
+			checkSecond(t, src, in(domain, drawConfig(draw)), &known)
+		}
+		for site, count := range known {
+			if count < 500 {
+				t.Errorf("domain %d: only %d sites are %d", domain, count, site)
+			}
 		}
 	}
 }
 
+// hasNumber tells whether a number is in a value of a domain.
+func hasNumber(domain int, v api.Value, n int64) bool {
+	switch {
+	case domain == api.Intervals:
+		return v.A <= n && n <= v.B
+	case v.A == 0:
+		return n == v.B
+	}
+	return (n-v.B)%v.A == 0
+}
+
 // checkWithin holds a report to a run: the run does nothing that the report does not have.
-func checkWithin(t *testing.T, src string, report api.Report, trace api.Trace) {
+func checkWithin(t *testing.T, src string, domain int, report api.Report, trace api.Trace) {
 	t.Helper()
 	for _, visit := range trace.Visits {
 		fact := report.Facts[visit.Point]
@@ -253,8 +271,8 @@ func checkWithin(t *testing.T, src string, report api.Report, trace api.Trace) {
 			t.Errorf("%q: a run comes by at %d, which is not reached", src, visit.Point)
 		}
 		for name, n := range visit.Store {
-			if v := fact.Values[name]; int64(n) < v.A || int64(n) > v.B {
-				t.Errorf("%q: at %d %c is %d, which is not within %v", src, visit.Point, 'a'+name, n, v)
+			if v := fact.Values[name]; !hasNumber(domain, v, int64(n)) {
+				t.Errorf("%q: at %d %c is %d, which is not in %s", src, visit.Point, 'a'+name, n, valueText(domain, v))
 			}
 		}
 	}
@@ -266,16 +284,23 @@ func checkWithin(t *testing.T, src string, report api.Report, trace api.Trace) {
 func TestP14RunsAreWithin(t *testing.T) {
 	draw := draws(15)
 	for _, src := range append(drawn(16, 1000), drawnLoops(17, 3000)...) {
-		report, err := invariants.Analyze(src, drawConfig(draw))
-		if err != nil {
-			t.Fatalf("Analyze(%q): %v", src, err)
-		}
+		cfg := drawConfig(draw)
+		var traces []api.Trace
 		for range 3 {
 			trace, err := invariants.Run(src, drawInputs(draw), api.MaxFuel)
 			if err != nil {
 				t.Fatalf("Run(%q): %v", src, err)
 			}
-			checkWithin(t, src, report, trace)
+			traces = append(traces, trace)
+		}
+		for _, domain := range domains() {
+			report, err := invariants.Analyze(src, in(domain, cfg))
+			if err != nil {
+				t.Fatalf("Analyze(%q): %v", src, err)
+			}
+			for _, trace := range traces {
+				checkWithin(t, src, domain, report, trace)
+			}
 		}
 	}
 }
@@ -293,9 +318,11 @@ func TestP5SameReports(t *testing.T) {
 			continue
 		}
 		held++
-		cfg := drawConfig(draw)
-		if one, other := analyzed(src, cfg), analyzed(text, cfg); one != other {
-			t.Errorf("Analyze(%q, %v): %s\nbut written in one form\n%s", src, cfg, one, other)
+		for _, domain := range domains() {
+			cfg := in(domain, drawConfig(draw))
+			if one, other := analyzed(src, cfg), analyzed(text, cfg); one != other {
+				t.Errorf("Analyze(%q, %v): %s\nbut written in one form\n%s", src, cfg, one, other)
+			}
 		}
 	}
 	if held < 1000 {
@@ -330,32 +357,36 @@ func TestP1NestedLoops(t *testing.T) {
 		nested("read a;read b;", "?=a;", "a=b;"),
 		nested("read b;", "?=0;", "a=a+1;"),
 	} {
-		report, err := invariants.Analyze(src, cfg)
-		if err != nil {
-			t.Fatalf("Analyze(%q): %v", src, err)
-		}
 		trace, err := invariants.Run(src, []int16{-2, 3}, api.MaxFuel)
 		if err != nil {
 			t.Fatalf("Run(%q): %v", src, err)
 		}
-		checkWithin(t, src, report, trace)
+		for _, domain := range domains() {
+			report, err := invariants.Analyze(src, in(domain, cfg))
+			if err != nil {
+				t.Fatalf("Analyze(%q): %v", src, err)
+			}
+			checkWithin(t, src, domain, report, trace)
+		}
 	}
 }
 
 func TestP2FreshReports(t *testing.T) {
-	src, cfg := "read a;while a<3{b=6/a;a=a+1;}", api.Config{Unroll: 1}
-	first, err := invariants.Analyze(src, cfg)
-	if err != nil {
-		t.Fatal(err)
-	}
-	want := reported(first)
-	for i := range first.Facts {
-		first.Facts[i] = api.Fact{Reached: i%2 == 0, Values: [api.Names]api.Value{{A: 77, B: math.MaxInt64}}}
-	}
-	for i := range first.Sites {
-		first.Sites[i] = api.Unreached
-	}
-	if got := analyzed(src, cfg); got != want {
-		t.Errorf("%s behind a written report, want %s", got, want)
+	for _, domain := range domains() {
+		src, cfg := "read a;while a<3{b=6/a;a=a+1;}", api.Config{Domain: domain, Unroll: 1}
+		first, err := invariants.Analyze(src, cfg)
+		if err != nil {
+			t.Fatal(err)
+		}
+		want := reported(domain, first)
+		for i := range first.Facts {
+			first.Facts[i] = api.Fact{Reached: i%2 == 0, Values: [api.Names]api.Value{{A: 77, B: math.MaxInt64}}}
+		}
+		for i := range first.Sites {
+			first.Sites[i] = api.Unreached
+		}
+		if got := analyzed(src, cfg); got != want {
+			t.Errorf("%s behind a written report, want %s", got, want)
+		}
 	}
 }

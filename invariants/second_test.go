@@ -1,7 +1,6 @@
 package invariants_test
 
 import (
-	"slices"
 	"testing"
 
 	"invariants/api"
@@ -9,18 +8,30 @@ import (
 	"invariants/tree"
 )
 
-// span is the numbers from lo to hi.
-type span struct{ lo, hi int }
+// pair is a value, as a report has it: in Intervals the numbers from a to b; in Congruences all that leave b when they are divided by a, or b alone, if a is 0.
+type pair struct{ a, b int }
 
-var wholeSpan = span{-32768, 32767}
+// kind is what a second analysis knows of a domain. What has no value, or is met with nothing, is nil.
+type kind interface {
+	number(n int) pair
+	whole() pair
+	negated(x pair) pair
+	between(sign string, x, y pair) *pair
+	hasNought(x pair) bool
+	join(x, y pair) pair
+	meet(x, y pair) *pair
+	bounds(sign string, l, r pair) (left, right *pair, ok bool)
+	leap(i, j pair) pair
+	back(i, n pair) pair
+}
 
 // world is a state; nil is none. One that is handed on is never written into.
-type world *[api.Names]span
+type world *[api.Names]pair
 
 // second is an analysis in another way: each statement is made into a function from world to world, and loops within loops are gone round anew each time.
 type second struct {
+	kind
 	cfg    api.Config
-	steps  []int
 	facts  []world
 	sites  []int
 	silent int // how many loops are looked for a state of just now
@@ -28,44 +39,32 @@ type second struct {
 
 type change func(world) world
 
-// fit is from the least to the greatest of some numbers, if they all are within MIN to MAX.
-func fit(all ...int) *span {
-	s := span{slices.Min(all), slices.Max(all)}
-	if s.lo < wholeSpan.lo || s.hi > wholeSpan.hi {
-		s = wholeSpan
-	}
-	return &s
-}
-
-func cut(x, y span) *span {
-	s := span{max(x.lo, y.lo), min(x.hi, y.hi)}
-	if s.lo > s.hi {
-		return nil
-	}
-	return &s
-}
-
-func put(w world, name tree.Name, s *span) world {
-	if w == nil || s == nil {
+func put(w world, name tree.Name, p *pair) world {
+	if w == nil || p == nil {
 		return nil
 	}
 	copied := *w
-	copied[name] = *s
+	copied[name] = *p
 	return &copied
 }
 
-func joined(one, other world) world {
+// paired puts two worlds together that are not nil.
+func paired(one, other world, both func(x, y pair) pair) world {
+	copied := *one
+	for name, p := range other {
+		copied[name] = both(copied[name], p)
+	}
+	return &copied
+}
+
+func (a *second) joined(one, other world) world {
 	if one == nil {
 		return other
 	}
 	if other == nil {
 		return one
 	}
-	copied := *one
-	for name, s := range other {
-		copied[name] = span{min(s.lo, copied[name].lo), max(s.hi, copied[name].hi)}
-	}
-	return &copied
+	return paired(one, other, a.join)
 }
 
 func alike(one, other world) bool {
@@ -77,7 +76,7 @@ func alike(one, other world) bool {
 
 func (a *second) comeTo(point int, w world) {
 	if a.silent == 0 {
-		a.facts[point] = joined(a.facts[point], w)
+		a.facts[point] = a.joined(a.facts[point], w)
 	}
 }
 
@@ -91,45 +90,20 @@ func (a *second) atSite(site tree.Site, alarm bool) {
 	}
 }
 
-// over is a quotient or a remainder; nil, if there is none.
-func over(sign string, x, y span) *span {
-	var all []int
-	for _, part := range []*span{cut(y, span{-32768, -1}), cut(y, span{1, 32767})} {
-		if part != nil {
-			for _, n := range []int{x.lo, x.hi} {
-				all = append(all, quotient(n, part.lo), quotient(n, part.hi))
-			}
-		}
-	}
-	if all == nil {
-		return nil
-	}
-	if sign == "/" {
-		return fit(all...)
-	}
-	m := max(size(y.lo), size(y.hi)) - 1
-	rest := span{}
-	if x.lo < 0 {
-		rest.lo = max(x.lo, -m)
-	}
-	if x.hi > 0 {
-		rest.hi = min(x.hi, m)
-	}
-	return &rest
-}
-
-func (a *second) sum(s tree.Sum, w world) *span {
+func (a *second) sum(s tree.Sum, w world) *pair {
 	switch s := s.(type) {
 	case tree.Number:
-		return fit(int(s))
+		n := a.number(int(s))
+		return &n
 	case tree.Name:
-		return fit(w[s].lo, w[s].hi)
+		p := w[s]
+		return &p
 	case tree.Negation:
 		x := a.sum(s.Of, w)
-		if x == nil {
-			return nil
+		if x != nil {
+			*x = a.negated(*x)
 		}
-		return fit(-x.lo, -x.hi)
+		return x
 	}
 	b := s.(tree.Binary)
 	x := a.sum(b.Left, w)
@@ -140,47 +114,18 @@ func (a *second) sum(s tree.Sum, w world) *span {
 	if y == nil {
 		return nil
 	}
-	switch b.Sign() {
-	case "+":
-		return fit(x.lo+y.lo, x.hi+y.hi)
-	case "-":
-		return fit(x.lo-y.hi, x.hi-y.lo)
-	case "*":
-		return fit(x.lo*y.lo, x.lo*y.hi, x.hi*y.lo, x.hi*y.hi)
+	if b.Sign() == "/" || b.Sign() == "%" {
+		a.atSite(b.Site, a.hasNought(*y))
 	}
-	a.atSite(b.Site, y.lo <= 0 && y.hi >= 0)
-	return over(b.Sign(), *x, *y)
+	return a.between(b.Sign(), *x, *y)
 }
 
-// bounds are what the two sides of a condition are met with; not ok, if it cannot hold.
-func bounds(sign string, l, r span) (left, right span, ok bool) {
-	left, right = wholeSpan, wholeSpan
-	switch sign {
-	case "<":
-		left.hi, right.lo, ok = r.hi-1, l.lo+1, l.lo < r.hi
-	case "<=":
-		left.hi, right.lo, ok = r.hi, l.lo, l.lo <= r.hi
-	case ">":
-		left.lo, right.hi, ok = r.lo+1, l.hi-1, l.hi > r.lo
-	case ">=":
-		left.lo, right.hi, ok = r.lo, l.hi, l.hi >= r.lo
-	case "==":
-		left, right, ok = r, l, cut(l, r) != nil
-	case "!=":
-		ok = l != r || l.lo != l.hi
-		left, right = without(l, r), without(r, l)
+func (a *second) bounded(side tree.Sum, bound *pair, w world) world {
+	name, isName := side.(tree.Name)
+	if !isName || bound == nil || w == nil {
+		return w
 	}
-	return left, right, ok
-}
-
-// without is x, but for an end that is the other one alone.
-func without(x, other span) span {
-	if other.lo == other.hi && x.lo == other.lo {
-		x.lo++
-	} else if other.lo == other.hi && x.hi == other.lo {
-		x.hi--
-	}
-	return x
+	return put(w, name, a.meet(w[name], *bound))
 }
 
 func (a *second) behind(c tree.Cond, sign string, w world) world {
@@ -195,17 +140,11 @@ func (a *second) behind(c tree.Cond, sign string, w world) world {
 	if r == nil {
 		return nil
 	}
-	left, right, ok := bounds(sign, *l, *r)
+	left, right, ok := a.bounds(sign, *l, *r)
 	if !ok {
 		return nil
 	}
-	if name, isName := c.Left.(tree.Name); isName {
-		w = put(w, name, cut(w[name], left))
-	}
-	if name, isName := c.Right.(tree.Name); isName && w != nil {
-		w = put(w, name, cut(w[name], right))
-	}
-	return w
+	return a.bounded(c.Right, right, a.bounded(c.Left, left, w))
 }
 
 func (a *second) when(c tree.Cond) change {
@@ -244,7 +183,8 @@ func (a *second) statement(s tree.Statement) change {
 	case tree.Assign:
 		return func(w world) world { return put(w, s.Name, a.sum(s.Sum, w)) }
 	case tree.Read:
-		return func(w world) world { return put(w, s.Name, &wholeSpan) }
+		whole := a.whole()
+		return func(w world) world { return put(w, s.Name, &whole) }
 	case tree.Assert:
 		yes, no := a.when(s.Cond), a.unless(s.Cond)
 		return func(w world) world {
@@ -253,7 +193,7 @@ func (a *second) statement(s tree.Statement) change {
 		}
 	case tree.If:
 		yes, no, then, other := a.when(s.Cond), a.unless(s.Cond), a.block(s.Then), a.block(s.Else)
-		return func(w world) world { return joined(then(yes(w)), other(no(w))) }
+		return func(w world) world { return a.joined(then(yes(w)), other(no(w))) }
 	}
 	loop := s.(tree.While)
 	yes, no, body := a.when(loop.Cond), a.unless(loop.Cond), a.block(loop.Block)
@@ -261,13 +201,13 @@ func (a *second) statement(s tree.Statement) change {
 		var out world
 		for range a.cfg.Unroll {
 			a.comeTo(loop.Where(), w)
-			out = joined(out, no(w))
+			out = a.joined(out, no(w))
 			w = body(yes(w))
 		}
-		w = a.settled(w, func(i world) world { return joined(w, body(yes(i))) })
+		w = a.settled(w, func(i world) world { return a.joined(w, body(yes(i))) })
 		a.comeTo(loop.Where(), w)
 		body(yes(w))
-		return joined(out, no(w))
+		return a.joined(out, no(w))
 	}
 }
 
@@ -276,79 +216,47 @@ func (a *second) settled(i world, next change) world {
 	defer func() { a.silent-- }()
 	for k := 1; ; k++ {
 		n := next(i)
-		if alike(joined(n, i), i) {
+		if alike(a.joined(n, i), i) {
 			break
 		}
-		j := joined(i, n)
+		j := a.joined(i, n)
 		if k > a.cfg.Delay {
-			j = a.leap(i, j)
+			j = paired(i, j, a.leap)
 		}
 		i = j
 	}
 	for range a.cfg.Narrow {
-		i = back(i, next(i))
+		if n := next(i); i != nil && n != nil {
+			i = paired(i, n, a.back)
+		}
 	}
 	return i
 }
 
-// leap goes by the steps in their order.
-func (a *second) leap(i, j world) world {
-	wide := *i
-	for name, s := range j {
-		if s.lo < i[name].lo {
-			at, exact := slices.BinarySearch(a.steps, s.lo)
-			if !exact {
-				at--
-			}
-			wide[name].lo = a.steps[at]
-		}
-		if s.hi > i[name].hi {
-			at, _ := slices.BinarySearch(a.steps, s.hi)
-			wide[name].hi = a.steps[at]
-		}
-	}
-	return &wide
-}
-
-func back(i, n world) world {
-	if i == nil || n == nil {
-		return nil
-	}
-	narrow := *i
-	for name, s := range n {
-		if narrow[name].lo == wholeSpan.lo {
-			narrow[name].lo = s.lo
-		}
-		if narrow[name].hi == wholeSpan.hi {
-			narrow[name].hi = s.hi
-		}
-	}
-	return &narrow
-}
-
-// secondReport is the report in Intervals, found by a second analysis.
+// secondReport is the report, found by a second analysis.
 func secondReport(t *testing.T, src string, cfg api.Config) api.Report {
 	t.Helper()
 	program, err := reader.Program(src)
 	if err != nil {
 		t.Fatalf("%q: %v", src, err)
 	}
-	a := &second{cfg: cfg, steps: []int{-32768, 32767}, facts: make([]world, program.End+1), sites: make([]int, program.Sites)}
-	if cfg.Thresholds {
-		for _, n := range program.Numbers {
-			a.steps = append(a.steps, int(n), -int(n))
-		}
+	a := &second{kind: classes{}, cfg: cfg, facts: make([]world, program.End+1), sites: make([]int, program.Sites)}
+	if cfg.Domain == api.Intervals {
+		a.kind = newSpans(program.Numbers, cfg.Thresholds)
 	}
-	slices.Sort(a.steps)
-	a.facts[program.End] = a.block(program.Block)(&[api.Names]span{})
+	start := world(new([api.Names]pair))
+	for name := range start {
+		start[name] = a.number(0)
+	}
+	a.facts[program.End] = a.block(program.Block)(start)
 	report := api.Report{Facts: make([]api.Fact, len(a.facts)), Sites: a.sites}
 	for point, w := range a.facts {
 		if w == nil {
 			continue
 		}
 		report.Facts[point].Reached = true
-		for name, s := range w {
-			report.Facts[point].Values[name] = api.Value{A: int64(s.lo), B: int64(s.hi)}
+		for name, p := range w {
+			report.Facts[point].Values[name] = api.Value{A: int64(p.a), B: int64(p.b)}
 		}
 	}
 	return report

@@ -144,7 +144,8 @@ func TestP2SameAnswerAgain(t *testing.T) {
 	texts := append(samples(), "a=?", "a=1", "a="+strings.Repeat("-", 13), strings.Repeat(" ", api.MaxText+1))
 	answers := func(src string) string {
 		return printed(src) + ran(src, []int16{3, -1}, 40) + ran(src, nil, api.MaxFuel) + ran(src, nil, -1) +
-			analyzed(src, api.Config{}) + analyzed(src, api.Config{Delay: 2, Narrow: 2, Unroll: 2, Thresholds: true}) + analyzed(src, api.Config{Delay: -1})
+			analyzed(src, api.Config{}) + analyzed(src, api.Config{Delay: 2, Narrow: 2, Unroll: 2, Thresholds: true}) + analyzed(src, api.Config{Delay: -1}) +
+			analyzed(src, api.Config{Domain: api.Congruences}) + analyzed(src, api.Config{Domain: api.Congruences, Delay: 2, Narrow: 2, Unroll: 2})
 	}
 	first := map[string]string{}
 	for _, src := range texts {
